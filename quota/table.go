@@ -8,7 +8,7 @@ import (
 	"sync"
 
 	"sluice/api"
-	"sluice/words"
+	"sluice/bucket"
 )
 
 // Table is what a text of limits says. It never changes, so that any number of
@@ -19,11 +19,11 @@ type Table struct {
 	text string // what once has made
 }
 
-// Limit tells the limit of a tenant's bucket, or of the organisation's, if tenant is "".
-func (t *Table) Limit(class words.Class, org string, tenant string) api.Limit {
-	own := subject{ownTenant, class, org, tenant}
-	general := subject{kind: defaultTenant, class: class}
-	if tenant == "" {
+// Limit tells the limit of a bucket: its own, or the default.
+func (t *Table) Limit(key bucket.Key) api.Limit {
+	own := subject{ownTenant, key.Class, key.Org, key.Tenant}
+	general := subject{kind: defaultTenant, class: key.Class}
+	if key.Tenant == "" {
 		own.kind, general.kind = ownOrg, defaultOrg
 	}
 	if limit, said := t.said[own]; said {

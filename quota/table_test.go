@@ -5,6 +5,7 @@ import (
 	"testing"
 
 	"sluice/api"
+	"sluice/bucket"
 	"sluice/words"
 )
 
@@ -72,8 +73,9 @@ func TestTableLimit(t *testing.T) {
 		{words.Query, "b", "a", api.Limit{Rate: 7, Burst: 8}},
 		{words.Ingest, "a", "b", api.Limit{Rate: 5, Burst: 6}},
 	} {
-		if got := table.Limit(c.class, c.org, c.tenant); got != c.want {
-			t.Errorf("Limit(%v, %q, %q) = %v, want %v", c.class, c.org, c.tenant, got, c.want)
+		key := bucket.Key{Class: c.class, Org: c.org, Tenant: c.tenant}
+		if got := table.Limit(key); got != c.want {
+			t.Errorf("Limit(%v) = %v, want %v", key, got, c.want)
 		}
 	}
 }

@@ -33,7 +33,6 @@ func TestLimit(t *testing.T) {
 // P4: ErrName and no limit, if the class, the organisation or the tenant is none.
 func TestLimitErrName(t *testing.T) {
 	s := made(t, canonical)
-	noNames := []string{"A", "abcdefghi", "αβγδεζηθι", "a b", " a", "a ", "a\n", "ϊ", "ΰ", "\xce", "a\xce", "\xff", "\ufffd", "a_b", "#", strings.Repeat("a", 5000)}
 	for _, class := range []string{"", "Ingest", "ingest ", "other", "org", "ingest query", "\xff"} {
 		wantErrName(t, s.Limit, class, "a", "")
 		wantErrName(t, s.Limit, class, "a", "a")
