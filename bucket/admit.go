@@ -2,11 +2,12 @@ package bucket
 
 import "sluice/api"
 
+// The codes of answers.
 const (
-	letThrough = 204
-	tooMuch    = 413
-	comeAgain  = 429
-	noRoom     = 503
+	LetThrough = 204
+	TooMuch    = 413
+	ComeAgain  = 429
+	NoRoom     = 503
 )
 
 const second = 1000000000 // nanoseconds
@@ -17,16 +18,16 @@ func (l Levels) Admit(tenant Key, cost int, limit func(Key) api.Limit) api.Answe
 	org := tenant.Organisation()
 	ofOrg, ofTenant := limit(org), limit(tenant)
 	if cost > ofOrg.Burst || cost > ofTenant.Burst {
-		return api.Answer{Code: tooMuch}
+		return api.Answer{Code: TooMuch}
 	}
 	if !l.haveRoom(org, tenant) {
-		return api.Answer{Code: noRoom}
+		return api.Answer{Code: NoRoom}
 	}
 	wait := max(l.wait(org, cost, ofOrg), l.wait(tenant, cost, ofTenant))
 	if wait > 0 {
-		return api.Answer{Code: comeAgain, Wait: wait, Retry: roundUp(wait, second)}
+		return api.Answer{Code: ComeAgain, Wait: wait, Retry: roundUp(wait, second)}
 	}
 	l.charge(org, cost)
 	l.charge(tenant, cost)
-	return api.Answer{Code: letThrough}
+	return api.Answer{Code: LetThrough}
 }

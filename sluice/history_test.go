@@ -153,15 +153,40 @@ func (p *play) admit(r api.Request) {
 		wantWrong(p.t, p.s, r.Class, r.Org, r.Tenant, r.Cost, api.ErrRange)
 		return
 	}
+	want := p.decide(r)
+	wantAdmit(p.t, p.s, r.Class, r.Org, r.Tenant, r.Cost, want)
+}
+
+// decide answers as the history does, and keeps what had to wait.
+func (p *play) decide(r api.Request) api.Answer {
 	want := p.h.admit(r)
 	p.seen[want.Code]++
-	wantAdmit(p.t, p.s, r.Class, r.Org, r.Tenant, r.Cost, want)
 	if want.Code == 429 {
 		p.last, p.wait = r, want.Wait
 	}
 	if want.Code == 204 {
 		p.wait = 0
 	}
+	return want
+}
+
+// serve asks for some requests at once, as heads, of which some are not good.
+func (p *play) serve() {
+	heads, want := make([]string, p.draw(6)), []string{}
+	for i := range heads {
+		r := p.request()
+		heads[i] = headFor(r)
+		switch {
+		case p.draw(8) == 0:
+			heads[i] = heads[i][:p.draw(len(heads[i]))]
+			want = append(want, text400)
+		case r.Cost > api.MaxCost:
+			want = append(want, text400)
+		default:
+			want = append(want, textOf(p.decide(r)))
+		}
+	}
+	wantServe(p.t, p.s, heads, want...)
 }
 
 func (p *play) tick(n int) {
@@ -204,6 +229,8 @@ func (p *play) step() {
 		}
 	case 5, 6:
 		p.comeAgain()
+	case 7, 8:
+		p.serve()
 	default:
 		p.admit(p.request())
 	}
@@ -250,7 +277,7 @@ func playOn(t *testing.T, draw func(below int) int, steps int, seen map[int]int)
 	p.wantNoMoreThanLimits()
 }
 
-// P4 to P7, P9: runs of all calls are answered as the history answers them.
+// P4 to P9: runs of all calls are answered as the history answers them.
 func TestHistory(t *testing.T) {
 	random := rand.New(rand.NewPCG(3, 4))
 	seen := map[int]int{}

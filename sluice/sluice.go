@@ -7,6 +7,7 @@ import (
 
 	"sluice/api"
 	"sluice/bucket"
+	"sluice/head"
 	"sluice/quota"
 	"sluice/words"
 )
@@ -114,4 +115,39 @@ func (s *Sluice) Sweep() int {
 }
 
 // Serve answers heads (P8).
-func (s *Sluice) Serve(heads ...string) []string { return nil }
+func (s *Sluice) Serve(heads ...string) []string {
+	answers := s.decide(readHeads(heads))
+	texts := make([]string, len(answers))
+	for i, answer := range answers {
+		texts[i] = head.Write(answer)
+	}
+	return texts
+}
+
+// readHeads reads all heads at the same time: none bears on another.
+func readHeads(heads []string) []head.Asked {
+	asked := make([]head.Asked, len(heads))
+	var readers sync.WaitGroup
+	for i, text := range heads {
+		readers.Go(func() { asked[i] = head.Read(text) })
+	}
+	readers.Wait()
+	return asked
+}
+
+// decide goes through what is asked one behind the other, as each answer hangs
+// on what was let through ahead of it. No other call comes between.
+func (s *Sluice) decide(asked []head.Asked) []api.Answer {
+	s.lock.Lock()
+	defer s.lock.Unlock()
+	limit := s.limits.Load().Limit
+	answers := make([]api.Answer, len(asked))
+	for i, a := range asked {
+		if a.Refused != 0 {
+			answers[i] = api.Answer{Code: a.Refused}
+			continue
+		}
+		answers[i] = s.levels.Admit(a.Tenant, a.Cost, limit)
+	}
+	return answers
+}
